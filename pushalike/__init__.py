@@ -1,0 +1,1 @@
+"""Pushalike: pipelines over pushed events, compared for all inputs."""

@@ -1,0 +1,1 @@
+"""Pipelines and the trees that they are written as."""
