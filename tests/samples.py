@@ -1,6 +1,10 @@
 """Values of every kind that a function may be passed, and trees that many tests use."""
 
+from pushalike.base.tapes import Tape
 from pushalike.errors import ParseError, PushError
+from pushalike.joint.bounds import Bounds
+from pushalike.joint.stands import Pair
+from pushalike.run.live import Live
 from pushalike.tree.pipelines import Pipeline
 
 S = ("source", "s")
@@ -37,6 +41,8 @@ def junk():
         "it", "()", "(it)", (None,), (True,), ("a", "b", "c", "d", "e"), ("", ()), ((),), (("it",),), (1, 2, 3, 4),
         [], ["a"], ["it"], ["source", "s"], [0, "s", "a", 1], ["a", ()], [[]], {}, {"s": ["a"]}, {"s": "a"},
         {1: ("a",)}, {None: None}, {"it": ("a",)}, {"s": ()}, {(): ()}, nested("tuple", 20), nested("list", 20),
-        nested("dict", 20), shared(19), Pipeline.source("s"), (Pipeline.source("s"),), [Pipeline.source("s")],
+        nested("dict", 20), shared(19), Tape(), Tape(((0, "s", "a", 1),)), (Tape(),), Bounds.zero(0), Bounds.zero(1),
+        Live(Pipeline.source("s")), Pair(Pipeline.source("s"), Pipeline.source("s"), {"s": ("a",)}),
+        Pipeline.source("s"), (Pipeline.source("s"),), [Pipeline.source("s")],
         {"s": Pipeline.source("s")}, (Pipeline.source("s"), "s"), PushError("told"), ParseError(3),
     ]

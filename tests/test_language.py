@@ -114,9 +114,22 @@ class Interface(unittest.TestCase):
             "InvalidOperation ParseError UnknownName UnknownIndex NothingToUndo TooMany InvalidNumber"
         ),
         "base/words.py": "is_letter is_name is_layout is_event is_output is_list",
+        "base/tapes.py": "Tape",
         "tree/pipelines.py": "is_tree Pipeline",
+        "tree/texts.py": "write_tree write_pipeline read_tree read_pipeline",
+        "run/states.py": "is_state begin event due_in waited moment",
+        "run/readings.py": "MAX_CAUSES read difference",
+        "run/live.py": "Live",
+        "joint/bounds.py": "Bounds",
+        "joint/stands.py": "Pair",
     }
     METHODS = {
+        "Tape": "events last __len__ __getitem__ stamps __add__ __rshift__ upto changed fits __eq__ __str__",
+        "Live": (
+            "pipeline now state tape told __len__ push __call__ wait undo redo trial tried twin __eq__ __str__"
+        ),
+        "Bounds": "zero rows __len__ __contains__ least __and__ within cut __rshift__ risen moved __eq__ __str__",
+        "Pair": "left right layout is_stand begin stand has ways follow within parted __eq__ __str__",
         "Pipeline": (
             "of source never one after every tree width sources clocks __len__ __add__ __and__ __or__ at until or_else only pick fold "
             "first changes pairs quiet spaced late again __rshift__ busy part paths __contains__ replaced __eq__ __str__"
@@ -128,6 +141,7 @@ class Interface(unittest.TestCase):
         for path, names in self.EXPECTED.items():
             tree = ast.parse(texts["pushalike/" + path])
             defined = {node.name: node for node in tree.body if isinstance(node, (ast.FunctionDef, ast.ClassDef))}
+            defined.update({node.targets[0].id: node for node in tree.body if isinstance(node, ast.Assign)})
             for name in names.split():
                 self.assertIn(name, defined)
                 for method in self.METHODS.get(name, "").split():

@@ -1,1 +1,1 @@
-"""What everything else is made of: letters, names, layouts, events and outputs."""
+"""What everything else is made of: letters, names, layouts, events, outputs and tapes."""

@@ -20,6 +20,11 @@ def is_between(value, least, most):
     return is_integer(value) and least <= value <= most
 
 
+def are_integers(value, many):
+    """Whether the value is a tuple of so many integers."""
+    return isinstance(value, tuple) and len(value) == many and all([is_integer(item) for item in value])
+
+
 def is_letter(value):
     """Whether the value is a letter."""
     return isinstance(value, str) and len(value) == 1 and value in LETTERS

@@ -1,7 +1,8 @@
 """Which trees are pipelines, beyond their form."""
 
-from pushalike.tree.begins import is_over_at_begin
+from pushalike.run.parts import begin_part
 from pushalike.tree.forms import all_parts, is_closed
+from pushalike.tree.plans import Plan
 from pushalike.tree.widths import width_of
 
 MAX_CLOCKS = 5
@@ -16,7 +17,7 @@ def is_sound(tree):
 
 def can_begin_anew(tree):
     """Whether a tree may be the part of an again."""
-    return is_closed(tree) and not is_over_at_begin(tree)
+    return is_closed(tree) and begin_part(Plan(tree, None), None)[0] is not None
 
 
 def has_told(tree):

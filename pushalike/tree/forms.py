@@ -8,6 +8,8 @@ MAX_PLACES = 4
 MAX_PLACE = 3
 MAX_PAIRS = 20
 MAX_STATE = 8
+# The operators whose second part is a pattern.
+COPYING = ("switch", "busy")
 RANGES = {"delay": (1, 10 ** 40 - 1), "count": (1, 9), "room": (1, 3), "width": (0, 4)}
 
 
@@ -115,5 +117,5 @@ def is_closed(tree):
     if tree[0] == "it":
         return False
     # A pattern is the place of its own ("it",), but the part before it is not.
-    parts = parts_of(tree)[:1] if tree[0] in ("switch", "busy") else parts_of(tree)
+    parts = parts_of(tree)[:1] if tree[0] in COPYING else parts_of(tree)
     return all([is_closed(part) for part in parts])

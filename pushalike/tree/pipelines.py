@@ -3,7 +3,7 @@
 from pushalike.errors import InvalidOperation, InvalidPipeline, UnknownIndex
 from pushalike.tree.checks import clocks_of, has_told, is_sound, sources_of
 from pushalike.tree.forms import MAX_PARTS, has_form, is_path, part_at, parts_of, paths_of, with_part
-from pushalike.tree.widths import width_of
+from pushalike.tree.plans import Plan
 
 
 def is_tree(value):
@@ -27,7 +27,7 @@ class Pipeline:
         if not is_tree(tree) or has_told(tree) or not is_sound(tree):
             raise InvalidPipeline("this is not the tree of a pipeline")
         self._tree = tree
-        self._width = width_of(tree, None)
+        self._plan = Plan(tree, None)
         self._sources = sources_of(tree)
         self._clocks = clocks_of(tree)
         self._paths = paths_of(tree)
@@ -70,7 +70,7 @@ class Pipeline:
     @property
     def width(self):
         """The number of values in each output."""
-        return self._width
+        return self._plan.wide
 
     @property
     def sources(self):
@@ -179,6 +179,11 @@ class Pipeline:
         if path not in self:
             raise UnknownIndex(path)
         return Pipeline(with_part(self._tree, path, tree))
+
+
+def plan_of(pipeline):
+    """The plan of a pipeline, for the modules that run it."""
+    return pipeline._plan
 
 
 def _tree_of(other):

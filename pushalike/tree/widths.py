@@ -1,6 +1,6 @@
 """The widths of parts."""
 
-from pushalike.tree.forms import parts_of
+from pushalike.tree.forms import COPYING, parts_of
 
 MAX_WIDTH = 4
 
@@ -18,7 +18,7 @@ def width_of(tree, own):
         return None
     if len(parts) == 1:
         return single_width(tree, first)
-    second = width_of(parts[1], first if tree[0] in ("switch", "busy") else own)
+    second = width_of(parts[1], first if tree[0] in COPYING else own)
     if second is None:
         return None
     return double_width(tree[0], first, second)
@@ -46,7 +46,7 @@ def single_width(tree, width):
 
 def double_width(word, first, second):
     """The width of an operator over two parts of these widths, or None if they do not fit."""
-    if word in ("switch", "busy"):
+    if word in COPYING:
         return second
     if word in ("at", "until"):
         return first

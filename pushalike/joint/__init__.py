@@ -1,0 +1,1 @@
+"""Two pipelines side by side."""

@@ -1,0 +1,1 @@
+"""What pipelines do: their states, readings of tapes, and running ones."""
