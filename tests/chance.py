@@ -4,6 +4,8 @@ import random
 
 from pushalike.base.tapes import Tape
 from pushalike.errors import InvalidPipeline
+from pushalike.joint.monitors import Monitor
+from pushalike.tree.forms import all_parts, part_at, paths_of, with_part
 from pushalike.tree.pipelines import Pipeline, is_tree
 
 LAYOUT = {"s": ("a", "b"), "t": ("a", "c")}
@@ -81,6 +83,48 @@ class Chance:
             other = self.pipeline(most)
             if other.width == one.width:
                 return one, other
+
+    def changed(self, tree):
+        """A tree with one thing in it changed: a number, a letter, a word, or a part more or less."""
+        path = self.one_of(paths_of(tree))
+        part = part_at(tree, path)
+        near = [part, ("first", 3, part), ("changes", part), ("spaced", 1, part), ("quiet", 1, part), ("switch", part, ("it",)), ("busy", part, ("it",)),
+                ("only", ("a", "b", "c"), part), ("again", part), ("until", part, ("source", "t")), ("+", part, part), ("at", part, part),
+                ("then", part, part), ("until", part, ("never", 1)), ("fold", (((0, "a"), (0, "a")), ((0, "b"), (0, "b")), ((0, "c"), (0, "c"))), part)]
+        near += [inner for inner in all_parts(part)]
+        for at, item in enumerate(part):
+            if isinstance(item, int):
+                near += [part[:at] + (item + 1,) + part[at + 1:]] * 2 + [part[:at] + (item - 1,) + part[at + 1:]] * 2
+        if len(part) == 3 and isinstance(part[1], tuple) and isinstance(part[2], tuple):
+            near += [(part[0], part[2], part[1])] * 2
+        return with_part(tree, path, self.one_of(near))
+
+    def near_pair(self, most=6, changes=2):
+        """Two pipelines of one width that are much like each other."""
+        while True:
+            tree = one = self.pipeline(most).tree
+            for _ in range(self.random.randint(1, changes)):
+                other = self.changed(tree)
+                tree = other if is_tree(other) else tree
+            try:
+                pair = Pipeline.of(one), Pipeline.of(tree)
+            except InvalidPipeline:
+                continue
+            if pair[0].width == pair[1].width and pair[0].tree != pair[1].tree:
+                return pair
+
+    def monitor(self, width, most=7):
+        """A monitor for pipelines of this width."""
+        while True:
+            tree = self.tree(self.random.randint(1, most))
+            for path in paths_of(tree):
+                if part_at(tree, path)[0] in ("source", "never", "one") and self.random.random() < 0.6:
+                    tree = with_part(tree, path, ("told", width))
+            if is_tree(tree):
+                try:
+                    return Monitor.of(tree)
+                except InvalidPipeline:
+                    pass
 
     def event(self):
         """A source, a letter and a value."""

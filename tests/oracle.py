@@ -93,6 +93,15 @@ class It(Leaf):
         return self.end([it])
 
 
+class Told(Leaf):
+    """Tells what the pipeline beside a monitor has told; `Beside` says what this is ahead of each cause."""
+
+    heard = []
+
+    def hear(self, now, event):
+        return list(Told.heard)
+
+
 class Timer(Leaf):
     def start(self, now, it):
         self.due = now + self.tree[1]
@@ -494,7 +503,7 @@ class Busy(Switch):
 
 
 PARTS = {
-    "source": Source, "never": Leaf, "one": One, "after": Timer, "every": Timer, "it": It, "only": Only, "pick": Pick,
+    "told": Told, "source": Source, "never": Leaf, "one": One, "after": Timer, "every": Timer, "it": It, "only": Only, "pick": Pick,
     "fold": Fold, "first": First, "changes": Changes, "pairs": Pairs, "quiet": Quiet, "spaced": Spaced, "late": Late,
     "again": Again, "+": Plus, "&": Both, "at": At, "until": Until, "then": Then, "else": Else, "switch": Switch, "busy": Busy,
 }
@@ -543,3 +552,57 @@ class Machine:
             self.push(source, letter, value)
         self.wait_until(tape.last)
         return tuple(self.told)
+
+
+class Beside:
+    """A pipeline and a monitor, or another pipeline, that run side by side; `causes` has the stamps and both lists."""
+
+    def __init__(self, tree, other):
+        self.part, self.other = made(tree), made(other)
+        self.now = self.place = 0
+        self.early = tuple(self.other.start(0, None))
+        told = tuple(self.part.start(0, None))
+        Told.heard = split(told)[0]
+        later = [] if self.other.over else self.other.hear(0, ("", "", 0))
+        self.begins = told, tuple(later)
+        self.causes = [((0, -1), told, self.early + tuple(later))]
+
+    def hear(self, stamp, event):
+        told = [] if self.part.over else self.part.hear(self.now, event)
+        Told.heard = split(told)[0]
+        others = [] if self.other.over else self.other.hear(self.now, event)
+        self.causes.append((stamp, tuple(told), tuple(others)))
+
+    def next_due(self):
+        return min([due for _, due in self.part.clocks() + self.other.clocks()], default=None)
+
+    def wait_until(self, time):
+        while self.next_due() is not None and self.next_due() <= time:
+            self.now, self.place = self.next_due(), 0
+            self.hear((self.now, 0), None)
+        if time > self.now:
+            self.now, self.place = time, 0
+
+    def push(self, source, letter, value):
+        self.place += 1
+        self.hear((self.now, self.place), (source, letter, value))
+
+    def run(self, tape):
+        for time, source, letter, value in tape.events:
+            self.wait_until(time)
+            self.push(source, letter, value)
+        self.wait_until(tape.last)
+        return self.causes
+
+    def states(self):
+        """The states of both."""
+        return tuple(self.state_of(part) for part in (self.part, self.other))
+
+    def state_of(self, part):
+        readings = tuple(d - (due - self.now) for d, due in part.clocks())
+        return part.shape(), tuple(part.values()), readings
+
+    def observed(self):
+        """The stamps and lists of the causes at which the other one tells something, the begin of a monitor apart."""
+        pairs = [((0, -2), self.early), ((0, -1), self.begins[1])] + [(stamp, told) for stamp, _, told in self.causes[1:]]
+        return tuple(pair for pair in pairs if pair[1])

@@ -4,12 +4,19 @@ import unittest
 
 from pushalike.base.tapes import Tape
 from pushalike.joint.bounds import Bounds
+from pushalike.joint.monitors import Monitor, Watch, keeps, observe
+from pushalike.joint.papers import find_paper, hastened, is_paper
 from pushalike.joint.stands import Pair
 from pushalike.run.live import Live
 from pushalike.run.readings import difference, read
 from pushalike.run.states import begin, due_in, event, moment, waited
+from pushalike.text.papers import read_paper, write_paper
+from pushalike.text.shell import Shell
 from pushalike.tree.pipelines import Pipeline
-from pushalike.tree.texts import read_pipeline, read_tree, write_tree
+from pushalike.tree.texts import read_pipeline, read_tree, write_pipeline, write_tree
+from pushalike.use.chains import Chain, trim
+from pushalike.use.parts import closed_paths, exchange, hand_over, lifted, needless
+from pushalike.use.wishes import Book, answered, apart, at_most
 
 
 class Document(unittest.TestCase):
@@ -94,6 +101,69 @@ class Document(unittest.TestCase):
         self.assertEqual(
             pair.follow(stand, ("moment", (1, 2))),
             (((None, "on"), ((), "on"), (), ((0,),)), (("a", (0,)),), (("a", (0,)),)),
+        )
+
+
+    def test_the_examples_of_papers(self):
+        pair = Pair(read_pipeline("(until s s)"), read_pipeline("(first 1 s)"), {"s": ("a",)})
+        self.assertEqual(find_paper(pair), ("list", (("over", "over", (), ((0,),)), (("on", "on"), (1, "on"), (), ((0,),)))))
+        pair = Pair(read_pipeline("(quiet 2 s)"), read_pipeline("(late 2 1 s)"), {"s": ("a",)})
+        start = pair.begin()[0]
+        rounds = ((start,), (pair.follow(start, ("event", "s", "a", 0))[0],))
+        self.assertIs(is_paper(pair, ("row", ((0, "s", "a", 0), (0, "s", "a", 1)), 2, rounds)), True)
+        tape = hastened(pair, Tape(((3, "s", "a", 0), (7, "s", "a", 0), (8, "s", "a", 1)), last=20))
+        self.assertEqual([tape.events, tape.last], [((0, "s", "a", 0), (2, "s", "a", 0), (3, "s", "a", 1)), 5])
+
+    def test_the_examples_of_monitors(self):
+        quick = Monitor.of(read_tree("(switch (told 1) (after 2 z))"))
+        self.assertEqual(observe(read_pipeline("(quiet 3 s)"), quick, Tape(((0, "s", "a", 7),), last=9)), (((5, 0), (("z", ()),)),))
+        silent = Monitor.of(read_tree("(only b (told 1))"))
+        self.assertEqual([keeps(read_pipeline(text), silent, {"s": ("a", "b")}) for text in ("(only a s)", "s")], [True, False])
+        self.assertEqual(find_paper(Watch(Pipeline.source("s"), silent, {"s": ("a", "b")}))[:3], ("row", ((0, "s", "b", 0),), 0))
+
+    def test_the_examples_of_wishes(self):
+        book = Book({"s": ("a",)})
+        book["calm"], book["few"], book["quick"] = apart(3), at_most(2, 4), answered({"s": ("a",)}, "s", 3)
+        self.assertEqual(
+            [book.kept(read_pipeline(text)) for text in ("(quiet 3 s)", "(spaced 3 s)", "(late 3 1 s)", "s")],
+            [("calm", "few"), ("calm", "few"), ("calm", "few", "quick"), ("quick",)],
+        )
+
+    def test_the_examples_of_parts(self):
+        box, layout = read_pipeline("(first 2 (first 5 s))"), {"s": ("a",)}
+        self.assertEqual(
+            [needless(box, layout), list(closed_paths(box)), lifted(box, (0, 0)) == read_pipeline("(first 2 s)")],
+            [((0, 0),), [(), (0,), (0, 0)], True],
+        )
+        pair = Pair(read_pipeline("(until s s)"), read_pipeline("(first 1 s)"), layout)
+        self.assertEqual(hand_over(pair, find_paper(pair), (("on", "on"), (), ())), ((1, "on"), (), ()))
+        live = Live(box)
+        self.assertEqual(live.push("s", "a", 1), (("a", (1,)),))
+        self.assertIsNone(exchange(live, (), read_pipeline("(first 2 s)"), layout))
+        self.assertEqual([str(live), live.state, live.push("s", "a", 2)], ["live pipeline of 2 parts at 0", ((1, "on"), (), ()), (("a", (2,)), "end")])
+
+    def test_the_examples_of_chains(self):
+        chain = Chain({"s": ("a",)}, read_pipeline("(changes (until s s))")).step((0,), read_pipeline("(first 1 s)"))
+        self.assertEqual(
+            [write_pipeline(chain.goal), (chain + chain.back()).goal == chain.start, len(chain + chain.back()), chain.steps[0][:2]],
+            ["(changes (first 1 s))", True, 2, ((0,), ("first", 1, ("source", "s")))],
+        )
+        self.assertEqual(write_pipeline(trim(chain.goal, {"s": ("a",)}).goal), "(first 1 s)")
+
+    def test_the_examples_of_texts_of_papers(self):
+        stand = ((("a",), "on"), "over", (0,), ((0, 0), (4, 0)))
+        self.assertEqual(write_paper(("row", ((2, "s", "a", 7),), 9, ((stand,),))), "row\n2 s a 7\nuntil 9\nround\n(((a) on) over (0) ((0 0) (4 0)))")
+        self.assertEqual(read_paper("list\n((- on) (() on) () ((0)))"), ("list", (((None, "on"), ((), "on"), (), ((0,),)),)))
+
+    def test_the_examples_of_the_shell(self):
+        shell = Shell({"s": ("a",), "t": ("b",)})
+        self.assertEqual(
+            [shell("let box (quiet 3 s)"), shell("start box"), shell("push s a 7"), shell("wait 4"), shell("push s b 1")],
+            ["let box", "nothing", "nothing", "3: a 7", "tape"],
+        )
+        self.assertEqual(
+            [shell("undo"), shell("undo"), shell("undo"), shell("alike box box"), shell("let box (quiet 0 s)"), shell("show  box")],
+            ["at 0", "at 0", "undo", "alike", "text 2", "what"],
         )
 
 

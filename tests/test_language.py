@@ -122,6 +122,13 @@ class Interface(unittest.TestCase):
         "run/live.py": "Live",
         "joint/bounds.py": "Bounds",
         "joint/stands.py": "Pair",
+        "joint/papers.py": "find_paper is_paper are_alike turned hastened",
+        "joint/monitors.py": "Monitor Watch observe keeps",
+        "use/wishes.py": "no_letter apart at_most single lively answered Book",
+        "use/parts.py": "closed_paths lifted replace_part needless hand_over exchange",
+        "use/chains.py": "Chain trim",
+        "text/papers.py": "write_paper read_paper",
+        "text/shell.py": "SHELL_LIMIT Shell",
     }
     METHODS = {
         "Tape": "events last __len__ __getitem__ stamps __add__ __rshift__ upto changed fits __eq__ __str__",
@@ -130,6 +137,11 @@ class Interface(unittest.TestCase):
         ),
         "Bounds": "zero rows __len__ __contains__ least __and__ within cut __rshift__ risen moved __eq__ __str__",
         "Pair": "left right layout is_stand begin stand has ways follow within parted __eq__ __str__",
+        "Monitor": "of tree width sources clocks told __len__ __eq__ __str__",
+        "Watch": "left right layout is_stand begin stand has ways follow within parted __eq__ __str__",
+        "Book": "put __setitem__ __getitem__ __contains__ __len__ names kept",
+        "Chain": "of layout start goal steps __len__ __getitem__ step __add__ back __eq__ __str__",
+        "Shell": "__call__ run",
         "Pipeline": (
             "of source never one after every tree width sources clocks __len__ __add__ __and__ __or__ at until or_else only pick fold "
             "first changes pairs quiet spaced late again __rshift__ busy part paths __contains__ replaced __eq__ __str__"

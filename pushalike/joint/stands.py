@@ -2,19 +2,19 @@
 
 from pushalike.base.words import is_between, is_layout, is_list
 from pushalike.errors import InvalidLayout, InvalidOperation, InvalidPipeline, InvalidStand, InvalidState
-from pushalike.joint.rows import are_within, holds, point_rows, zero_rows
+from pushalike.joint.rows import are_within, holds
 from pushalike.joint.ways import (
     after_event,
     after_moment,
+    all_ways,
+    begin_stand,
     classes_of,
-    due_sets,
     is_due_set,
     is_stand_of,
     new_class,
-    stand_at,
+    states_stand,
 )
 from pushalike.run.shapes import is_state_of
-from pushalike.run.steps import begun
 from pushalike.tree.pipelines import Pipeline, plan_of
 
 
@@ -62,14 +62,12 @@ class Pair:
 
     def begin(self):
         """The joint stand of the begin, and the two begin lists."""
-        state, told = begun(self._plans[0])
-        other, others = begun(self._plans[1])
-        return stand_at(self._plans, state, other, zero_rows(len(state[2]) + len(other[2]))), told, others
+        return begin_stand(self._plans)
 
     def stand(self, state, other):
         """The joint stand of these two states and all to which waiting leads."""
         self._check_states(state, other)
-        return stand_at(self._plans, state, other, point_rows(state[2] + other[2]))
+        return states_stand(self._plans, state, other)
 
     def has(self, stand, state, other):
         """Whether the joint stand has these two states."""
@@ -82,12 +80,8 @@ class Pair:
     def ways(self, stand):
         """All ways on from the joint stand: the events, then the moments, both ascending."""
         self._check_stand(stand)
-        for source in self._layout:
-            for letter in self._layout[source]:
-                for number in range(new_class(stand) + 1):
-                    yield "event", source, letter, number
-        for due in due_sets(self._plans, stand):
-            yield "moment", due
+        for way in all_ways(self._plans, self._layout, stand):
+            yield way
 
     def follow(self, stand, way):
         """The joint stand to which the way leads, and the two lists."""
@@ -135,3 +129,8 @@ class Pair:
         """Raises the error for what are no states of the two pipelines."""
         if not is_state_of(self._plans[0], state) or not is_state_of(self._plans[1], other):
             raise InvalidState("this is no state of the pipeline")
+
+
+def plans_of(pair):
+    """The plans of a pair, for the modules that look for papers."""
+    return pair._plans

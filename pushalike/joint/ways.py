@@ -4,9 +4,18 @@
 """
 
 from pushalike.base.words import are_integers, is_between
-from pushalike.joint.rows import cut_rows, is_rows, is_tight, later_rows, moved_rows, risen_rows
+from pushalike.joint.rows import (
+    cut_rows,
+    is_rows,
+    is_tight,
+    later_rows,
+    moved_rows,
+    point_rows,
+    risen_rows,
+    zero_rows,
+)
+from pushalike.joint.sides import begun_sides, heard_sides
 from pushalike.run.shapes import needs_of
-from pushalike.run.steps import heard
 
 
 def is_stand_of(plans, value):
@@ -54,6 +63,17 @@ def stand_at(plans, state, other, rows):
     return state[0], other[0], classes_of(values), risen_rows(rows, tops)
 
 
+def begin_stand(plans):
+    """The joint stand of the begin, and both begin lists."""
+    (state, other), (told, others, more) = begun_sides(plans)
+    return stand_at(plans, state, other, zero_rows(len(state[2] + other[2]))), told, others + more
+
+
+def states_stand(plans, state, other):
+    """The joint stand of two states and all to which waiting leads."""
+    return stand_at(plans, state, other, point_rows(state[2] + other[2]))
+
+
 def waiting_rows(plans, stand):
     """The rows of a joint stand and all to which waiting leads from it."""
     return risen_rows(stand[3], tops_of(plans, stand[0], stand[1]))
@@ -62,6 +82,18 @@ def waiting_rows(plans, stand):
 def new_class(stand):
     """The class of a value that is unlike all of a joint stand."""
     return max(stand[2], default=-1) + 1
+
+
+def all_ways(plans, layout, stand):
+    """All ways on from the joint stand: the events, then the moments, both ascending; the layout ascends, too."""
+    classes = range(new_class(stand) + 1)
+    events = [
+        ("event", source, letter, number)
+        for source in layout
+        for letter in layout[source]
+        for number in classes
+    ]
+    return events + [("moment", due) for due in due_sets(plans, stand)]
 
 
 def due_sets(plans, stand):
@@ -119,6 +151,6 @@ def after_cause(plans, stand, rows, event, due):
     shape, other, classes, _ = stand
     many, clocks = needs_of(plans[0], shape)
     places = tuple(range(1, len(rows)))
-    one, told = heard(plans[0], (shape, classes[:many], places[:len(clocks)]), event, due)
-    two, others = heard(plans[1], (other, classes[many:], places[len(clocks):]), event, due)
+    states = (shape, classes[:many], places[:len(clocks)]), (other, classes[many:], places[len(clocks):])
+    (one, two), (told, others) = heard_sides(plans, states, event, due)
     return stand_at(plans, one, two, moved_rows(rows, one[2] + two[2])), told, others

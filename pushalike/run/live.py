@@ -132,6 +132,12 @@ class Live:
         self._undone = []
 
 
+def take_exchange(live, pipeline, state):
+    """A step after which another pipeline is running, in this state; it must have told the same so far."""
+    here = live._here()
+    live._take(Step(pipeline, here.time, here.place, state, (), ()))
+
+
 class Trial:
     """A block at the end of which a running pipeline is as it was at its beginning."""
 
@@ -147,7 +153,7 @@ class Trial:
 
     def __exit__(self, kind, value, trace):
         live = self._live
-        live._steps = self._mark.steps
+        live._steps = self._mark.taken
         live._undone = self._mark.undone
         self._mark = self._mark.elder
 
@@ -155,8 +161,8 @@ class Trial:
 class Mark:
     """The steps of a running pipeline at the beginning of a block, and the mark of the block around it."""
 
-    def __init__(self, steps, undone, elder):
-        self.steps = steps
+    def __init__(self, taken, undone, elder):
+        self.taken = taken
         self.undone = undone
         self.elder = elder
 

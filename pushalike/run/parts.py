@@ -3,7 +3,8 @@
 A part that is not over is a node here, a tuple of four: the operator's own items of the shape, the values and the
 clocks that it keeps itself, and the nodes of its parts. A part that is over is None. Values are only told apart, so
 they may as well be classes. A clock is any number above 0 by which the caller knows it, and 0 if it has just begun.
-A cause is a pair: `(source, letter, value)`, or None at a moment, and the clocks that are due.
+A cause is a triple: `(source, letter, value)`, or None if it is no event, the clocks that are due, and the outputs of
+the pipeline beside a monitor, which the leaves told tell.
 """
 
 from pushalike.run.doubles import hear_double
@@ -70,7 +71,9 @@ def hear_part(plan, node, cause, it):
 
 def hear_leaf(plan, node, cause):
     """As `hear_part`, of a leaf."""
-    event, due = cause
+    event, due, outputs = cause
+    if plan.word == "told":
+        return node, outputs
     if plan.word == "source":
         if event is None or event[0] != plan.terms[0]:
             return node, ()

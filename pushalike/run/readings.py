@@ -36,6 +36,11 @@ def check_arguments(pipelines, tape):
 
 def told_over(plan, tape):
     """The stamps and lists of all causes on a tape at which something is told."""
+    return run_over(plan, tape)[1]
+
+
+def run_over(plan, tape):
+    """The state after a tape, and the stamps and lists of all causes at which something is told."""
     # The begin and the events are causes whatever is told, so this many moments are left.
     room = MAX_CAUSES - 1 - len(tape)
     if room < 0:
@@ -49,7 +54,8 @@ def told_over(plan, tape):
         now = time
         state, told = at_event(plan, state, (source, letter, value))
         pairs = pairs + news + news_of(stamp, told)
-    return pairs + passed(plan, state, now, tape.last, room)[1]
+    state, news, _ = passed(plan, state, now, tape.last, room)
+    return state, pairs + news
 
 
 def news_of(stamp, told):

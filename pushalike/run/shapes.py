@@ -8,7 +8,7 @@ from pushalike.base.words import are_integers, is_between, is_letter
 from pushalike.tree.forms import COPYING, MAX_STATE
 
 OVER = ("over", (), ())
-ENDLESS = ("source", "never", "every", "again")
+ENDLESS = ("source", "never", "told", "every", "again")
 # The operators that keep one output at the most.
 KEEPING = ("quiet", "at", "switch", "busy")
 # How many items of its own an operator has in a shape, where it has any.

@@ -14,14 +14,16 @@ def begun(plan):
     return state_of(plan, node), told_list(outputs, node is None)
 
 
-def heard(plan, state, event, due):
+def heard(plan, state, event, due, beside=()):
     """The state after a cause, and the list; both states have the places of clocks in the place of readings.
 
-    `event` is `(source, letter, value)`, or None at a moment, and `due` are the places of the clocks that are due.
+    `event` is `(source, letter, value)`, or None if the cause is no event, `due` are the places of the clocks that
+    are due, and `beside` is the list that a pipeline tells at this cause, beside which a monitor runs.
     """
     if state == OVER:
         return state, ()
-    node, outputs = hear_part(plan, node_of(plan, state), (event, due), None)
+    told = tuple([output for output in beside if output != "end"])
+    node, outputs = hear_part(plan, node_of(plan, state), (event, due, told), None)
     return state_of(plan, node), told_list(outputs, node is None)
 
 

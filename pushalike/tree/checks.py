@@ -20,9 +20,9 @@ def can_begin_anew(tree):
     return is_closed(tree) and begin_part(Plan(tree, None), None)[0] is not None
 
 
-def has_told(tree):
-    """Whether a tree has a leaf told."""
-    return "told" in [part[0] for part in all_parts(tree)]
+def told_widths(tree):
+    """The widths of the leaves told of a tree, ascending."""
+    return tuple(sorted({part[1] for part in all_parts(tree) if part[0] == "told"}))
 
 
 def clocks_of(tree):

@@ -1,7 +1,7 @@
 """Trees and pipelines."""
 
 from pushalike.errors import InvalidOperation, InvalidPipeline, UnknownIndex
-from pushalike.tree.checks import clocks_of, has_told, is_sound, sources_of
+from pushalike.tree.checks import clocks_of, is_sound, sources_of, told_widths
 from pushalike.tree.forms import MAX_PARTS, has_form, is_path, part_at, parts_of, paths_of, with_part
 from pushalike.tree.plans import Plan
 
@@ -20,11 +20,16 @@ def is_tree(value):
     return True
 
 
+def is_pipeline_tree(value):
+    """Whether the value is the tree of a pipeline."""
+    return is_tree(value) and len(told_widths(value)) == 0 and is_sound(value)
+
+
 class Pipeline:
     """A pipeline; it never changes."""
 
     def __init__(self, tree):
-        if not is_tree(tree) or has_told(tree) or not is_sound(tree):
+        if not is_pipeline_tree(tree):
             raise InvalidPipeline("this is not the tree of a pipeline")
         self._tree = tree
         self._plan = Plan(tree, None)

@@ -1,0 +1,1 @@
+"""What is built upon papers: wishes, parts and chains."""
