@@ -11,6 +11,7 @@ from pushalike.use.chains import Chain, trim
 from pushalike.use.parts import lifted, needless
 from tests.chance import LAYOUT, Chance
 from tests.samples import junk
+from tests.test_parts import HUNDREDS
 
 SMALL = {"s": ("a",)}
 BOTH = {"s": ("a", "b"), "t": ("a",)}
@@ -94,6 +95,7 @@ class Chains(unittest.TestCase):
             self.assertIs(chain == value, False)
             self.assertIs(chain != value, True)
         self.assertFalse(Chain(SMALL, read_pipeline("s")) == Chain(BOTH, read_pipeline("s")))
+        self.assertFalse(Chain(BOTH, read_pipeline("s")) == Chain(BOTH, read_pipeline("t")))
 
     def test_joined(self):
         chain = known_chain()
@@ -236,6 +238,19 @@ class SpoiltSteps(unittest.TestCase):
         box = Chain(BOTH, read_pipeline("(changes (changes (changes (changes (changes (changes (changes (until s s))))))))"))
         self.assertRaises(InvalidPipeline, box.step, (0,) * 7, read_pipeline("(first 1 (only ab (only ab (only ab (only ab (only ab s))))))"))
         self.assertEqual(len(chain.step(path, other, limit=2)), 1)
+
+
+class DefaultLimits(unittest.TestCase):
+    def test_five_hundred_stands_and_one_more(self):
+        layout = {"s": ("a",), "t": ("a",), "u": ("a",)}
+        for many, box in HUNDREDS.items():
+            for call in (lambda: Chain(layout, box).step((), box), lambda: trim(Pipeline.of(("only", ("a",), box.tree)), layout)):
+                if many == 500:
+                    self.assertEqual(len(call()), 1)
+                else:
+                    with self.assertRaises(TooMany) as caught:
+                        call()
+                    self.assertEqual(caught.exception.limit, 500)
 
 
 class Trimmed(unittest.TestCase):

@@ -194,6 +194,17 @@ class Papers(unittest.TestCase):
         self.assertFalse(is_paper(wide, ("list", tuple(stand for stand in paper[1] if stand[0][0] is None) + (early,))))
         self.assertFalse(is_paper(wide, ("list", ())))
 
+    def test_events_that_nobody_hears(self):
+        early = (("b", "on"), ("b", "on"), (0, 0), ((0, 0, 0), (0, 0, 0), (0, 0, 0)))
+        late = (("b", "on"), ("b", "on"), (0, 0), ((0, 0, 0), (3, 0, 0), (3, 0, 0)))
+        for layout, right in ((SMALL, True), ({"s": ("a",), "u": ("a", "c")}, False), ({"r": ("b",), "s": ("a",)}, False)):
+            pair = Pair(read_pipeline("(quiet 4 s)"), read_pipeline("(quiet 4 s)"), layout)
+            stands = find_paper(pair)[1]
+            # Time passes before an event that nobody hears, and then the stand has what waiting leads to.
+            self.assertIs(is_paper(pair, ("list", stands + (early,))), right)
+            self.assertTrue(is_paper(pair, ("list", stands + (early, late))))
+            self.assertIs(judge(pair, ("list", stands + (early,))), right)
+
     def test_stands_within_larger_ones(self):
         pair = pair_of("(spaced 5 s)", "(spaced 5 s)", SMALL)
         zero = ((0, "on"), (0, "on"), (), ((0,),))
@@ -291,7 +302,7 @@ class Papers(unittest.TestCase):
         for value in junk():
             for other in (value, ("list", value), (value, paper[1]), ("list", paper[1] + (value,)), ("list", (value,)), paper + (value,),
                           ("row", value, 0, ()), ("row", (), value, ()), ("row", (), 0, value), ("row", ((0, "s", "a", 0),), 0, (value,)),
-                          ("list", [*paper[1]]), list(paper), ("list", (value,) + paper[1]), ("row", ((0, "s", "a", 0),), 0, ((value,),))):
+                          ("list", [*paper[1]]), ("row",), ("row", value), ("row", (), 0), ("row", (), 0, (), value), ("list",), ("list", paper[1], value), list(paper), ("list", (value,) + paper[1]), ("row", ((0, "s", "a", 0),), 0, ((value,),))):
                 self.assertIs(is_paper(pair, other), False)
         pair = pair_of("(after 3 z)", "(after 4 z)")
         self.assertTrue(is_paper(pair, ("row", (), 3, ())))

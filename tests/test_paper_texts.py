@@ -95,6 +95,8 @@ class Written(unittest.TestCase):
             text = "list\n(" + "(" * depth + "on" + ")" * depth + " on () ((0)))"
             self.assertEqual(write_paper(value), text)
             self.assertEqual(read_paper(text), value)
+            second = ("list", (("on", deep(depth), (), ((0,),)),))
+            self.assertEqual(read_paper(write_paper(second)), second)
             empty = ("list", (stand_with(deep(depth, ())),)) if depth < 19 else ("list", (stand_with(deep(18, ())),))
             self.assertEqual(read_paper(write_paper(empty)), empty)
         for depth in range(20, 40):

@@ -4,7 +4,7 @@ import unittest
 
 from pushalike.base.tapes import Tape
 from pushalike.errors import InvalidLayout, InvalidNumber, InvalidOperation, InvalidPaper, InvalidPipeline, InvalidState, NothingToUndo, TooMany, UnknownIndex
-from pushalike.joint.monitors import Monitor, Watch
+from pushalike.joint.monitors import Monitor, Watch, keeps
 from pushalike.joint.papers import are_alike, find_paper, is_paper
 from pushalike.joint.stands import Pair
 from pushalike.run.live import Live
@@ -13,6 +13,7 @@ from pushalike.run.states import is_state
 from pushalike.tree.pipelines import Pipeline
 from pushalike.tree.texts import read_pipeline, read_tree
 from pushalike.use.parts import closed_paths, exchange, hand_over, lifted, needless, replace_part
+from pushalike.use.wishes import Book
 from tests.chance import LAYOUT, Chance
 from tests.oracle import Machine
 from tests.samples import S, junk
@@ -21,6 +22,10 @@ from tests.test_papers import KNOWN
 SMALL = {"s": ("a",)}
 BOTH = {"s": ("a", "b"), "t": ("a",)}
 ALIKE = [(one, other) for one, other, few in KNOWN if few is None]
+
+
+# Pipelines that reach so many joint stands with themselves, over three sources.
+HUNDREDS = {500: read_pipeline("(+ (first 9 s) (+ (first 9 t) (first 4 u)))"), 501: read_pipeline("(then (+ (first 9 s) (+ (first 9 t) (first 4 u))) (first 1 s))")}
 
 
 def wrong_limits():
@@ -226,6 +231,24 @@ class Needless(unittest.TestCase):
             needless(box, BOTH, limit=9)
         self.assertEqual(caught.exception.limit, 9)
         self.assertEqual(needless(box, BOTH, limit=10), ((0, 0),))
+
+
+class DefaultLimits(unittest.TestCase):
+    def test_five_hundred_stands_and_one_more(self):
+        layout = {"s": ("a",), "t": ("a",), "u": ("a",)}
+        silent = Monitor.of(("only", ("b",), ("told", 1)))
+        for many, box in HUNDREDS.items():
+            self.assertEqual(len(find_paper(Pair(box, box, layout), limit=501)[1]), many)
+            book, double = Book(layout), Pipeline.of(("only", ("a",), box.tree))
+            book["silent"] = silent
+            for call in (lambda: find_paper(Pair(box, box, layout)), lambda: are_alike(box, box, layout), lambda: keeps(box, silent, layout), lambda: book.kept(box),
+                         lambda: replace_part(box, (), box, layout), lambda: needless(double, layout), lambda: exchange(Live(box), (), box, layout)):
+                if many == 500:
+                    call()
+                else:
+                    with self.assertRaises(TooMany) as caught:
+                        call()
+                    self.assertEqual(caught.exception.limit, 500)
 
 
 class HandedOver(unittest.TestCase):

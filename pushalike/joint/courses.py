@@ -37,10 +37,10 @@ class Course:
         one, other = self.sides
         places = tuple(range(1, len(self.begins) + 1))
         states = one[:2] + (places[:len(one[2])],), other[:2] + (places[len(one[2]):],)
-        self.sides, lists = heard_sides(self.plans, states, event, due)
+        sides, lists = heard_sides(self.plans, states, event, due)
         new = (len(self.demands), 0)
-        left = self.sides[0][2] + self.sides[1][2]
-        self.begins = tuple([new if place == 0 else self.begins[place - 1] for place in left])
+        self.begins = tuple([new if place == 0 else self.begins[place - 1] for place in sides[0][2] + sides[1][2]])
+        self.sides = sides
         return lists
 
 

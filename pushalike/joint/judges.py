@@ -54,7 +54,7 @@ def parts_at_last(pair, tape, start):
     if causes is None or len(causes) == 0 or causes[-1][0][0] != tape.last:
         return False
     parting = [pair.parted(told, others) for _, told, others in causes]
-    return parting.index(True) == len(parting) - 1 if True in parting else False
+    return parting[-1] and not any(parting[:-1])
 
 
 def are_rounds(pair, rounds, many, start):

@@ -53,14 +53,16 @@ class Search:
         while low < len(self.stands):
             index = low
             while index < len(self.stands):
-                for way in moments_from(self.pair, self.stands[index]):
+                moments = moments_from(self.pair, self.stands[index])
+                for way in moments:
                     if self.parts_lists(index, way):
                         return self.ways_to(index) + [way]
                 index += 1
             high = len(self.stands)
             self.rounds.append(tuple(self.stands[low:high]))
             for index in range(low, high):
-                for way in events_from(self.pair, self.stands[index]):
+                events = events_from(self.pair, self.stands[index])
+                for way in events:
                     if self.parts_lists(index, way):
                         return self.ways_to(index) + [way]
             low = high

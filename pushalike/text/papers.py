@@ -3,8 +3,8 @@
 from pushalike.base.tapes import is_row_of_events
 from pushalike.base.words import is_event, is_integer
 from pushalike.errors import InvalidPaper, ParseError
-from pushalike.text.items import has_stand_form, item_text, stand_of
-from pushalike.text.numbers import integer_of
+from pushalike.text.stands import has_stand_form, item_text, stand_of
+from pushalike.text.integers import integer_of
 
 
 def write_paper(paper):

@@ -15,7 +15,7 @@ from pushalike.joint.papers import find_paper
 from pushalike.joint.stands import Pair
 from pushalike.run.live import Live
 from pushalike.run.states import begin
-from pushalike.text.numbers import integer_of
+from pushalike.text.integers import integer_of
 from pushalike.tree.texts import read_pipeline, write_pipeline
 
 SHELL_LIMIT = 200

@@ -2,7 +2,7 @@
 
 from pushalike.base.words import is_integer, is_letter
 from pushalike.joint.rows import is_rows
-from pushalike.text.numbers import integer_of
+from pushalike.text.integers import integer_of
 
 MAX_DEPTH = 20
 EMPTY = "-"
@@ -42,41 +42,24 @@ def item_text(value):
 def stand_of(text):
     """What has the form of a joint stand and is written like this, or None."""
     value = item_of(text.replace("(", " ( ").replace(")", " ) ").split(" "))
-    # Blanks are only told apart by writing the value again.
+    # Blanks, and words that are none, are told apart by writing the value again.
     return value if has_stand_form(value) and item_text(value) == text else None
 
 
 def item_of(words):
-    """The tuple with these words, of which empty ones do not count, or None if there is none."""
+    """The last tuple with these words, of which empty ones do not count, or None if they are no tuples."""
+    # A text can be nested far deeper than functions should call themselves, so the tuples that have begun are kept.
     begun = []
     found = None
     for word in words:
-        if word == "":
-            continue
-        if found is not None:
-            return None
         if word == "(":
-            # A text can be nested far deeper than functions should call themselves.
-            if len(begun) == MAX_DEPTH:
-                return None
             begun.append([])
-        elif len(begun) == 0:
+        elif word != "" and len(begun) == 0:
             return None
-        elif word != ")":
-            if word != EMPTY and not is_word(word) and integer_of(word) is None:
-                return None
-            begun[-1].append(plain_item_of(word))
-        else:
-            inner = tuple(begun.pop())
+        elif word == ")":
+            found = tuple(begun.pop())
             if len(begun) > 0:
-                begun[-1].append(inner)
-            else:
-                found = inner
-    return found
-
-
-def plain_item_of(word):
-    """The item, no tuple, that is written like this."""
-    if word == EMPTY:
-        return None
-    return word if is_word(word) else integer_of(word)
+                begun[-1].append(found)
+        elif word != "":
+            begun[-1].append(word if is_word(word) else integer_of(word))
+    return found if len(begun) == 0 else None
