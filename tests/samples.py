@@ -3,9 +3,13 @@
 from pushalike.base.tapes import Tape
 from pushalike.errors import ParseError, PushError
 from pushalike.joint.bounds import Bounds
+from pushalike.joint.monitors import Monitor, Watch
 from pushalike.joint.stands import Pair
 from pushalike.run.live import Live
+from pushalike.text.shell import Shell
 from pushalike.tree.pipelines import Pipeline
+from pushalike.use.chains import Chain
+from pushalike.use.wishes import Book
 
 S = ("source", "s")
 T = ("source", "t")
@@ -45,4 +49,6 @@ def junk():
         Live(Pipeline.source("s")), Pair(Pipeline.source("s"), Pipeline.source("s"), {"s": ("a",)}),
         Pipeline.source("s"), (Pipeline.source("s"),), [Pipeline.source("s")],
         {"s": Pipeline.source("s")}, (Pipeline.source("s"), "s"), PushError("told"), ParseError(3),
+        Monitor.of(("told", 3)), (Monitor.of(S),), Watch(Pipeline.source("s"), Monitor.of(("first", 7, S)), {"s": ("a",)}), Book({"s": ("a",)}),
+        Chain({"s": ("a", "z")}, Pipeline.source("s")), Shell({"s": ("a",)}),
     ]

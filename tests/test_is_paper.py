@@ -2,7 +2,6 @@
 
 import unittest
 
-from pushalike.base.tapes import Tape
 from pushalike.errors import TooMany
 from pushalike.joint.bounds import Bounds
 from pushalike.joint.monitors import Monitor, Watch
@@ -340,7 +339,6 @@ class Papers(unittest.TestCase):
         paper = find_paper(watch)
         self.assertEqual(paper[0], "list")
         self.assertTrue(is_paper(watch, paper))
-        self.assertIsInstance(Tape(), Tape)
 
 
 if __name__ == "__main__":

@@ -168,8 +168,9 @@ class Observed(unittest.TestCase):
             if not isinstance(value, Pipeline):
                 self.assertRaises(InvalidPipeline, observe, value, monitor, tape)
                 self.assertRaises(InvalidPipeline, observe, value, None, None)
-            self.assertRaises(InvalidPipeline, observe, one, value, tape)
-            self.assertRaises(InvalidPipeline, observe, one, value, None)
+            if not isinstance(value, Monitor):
+                self.assertRaises(InvalidPipeline, observe, one, value, tape)
+                self.assertRaises(InvalidPipeline, observe, one, value, None)
             if not isinstance(value, Tape):
                 self.assertRaises(InvalidTape, observe, one, monitor, value)
                 self.assertRaises(InvalidTape, observe, one, monitor_of("(told 0)"), value)
@@ -312,8 +313,9 @@ class Watches(unittest.TestCase):
             if not isinstance(value, Pipeline):
                 self.assertRaises(InvalidPipeline, Watch, value, monitor, SMALL)
                 self.assertRaises(InvalidPipeline, Watch, value, None, None)
-            self.assertRaises(InvalidPipeline, Watch, one, value, SMALL)
-            self.assertRaises(InvalidPipeline, Watch, one, value, None)
+            if not isinstance(value, Monitor):
+                self.assertRaises(InvalidPipeline, Watch, one, value, SMALL)
+                self.assertRaises(InvalidPipeline, Watch, one, value, None)
             self.assertRaises(InvalidLayout, Watch, one, monitor, value)
             self.assertRaises(InvalidLayout, Watch, one, far, value)
         self.assertRaises(InvalidPipeline, Watch, monitor, one, SMALL)
@@ -445,7 +447,8 @@ class Kept(unittest.TestCase):
             if not isinstance(value, Pipeline):
                 self.assertRaises(InvalidPipeline, keeps, value, monitor, SMALL)
                 self.assertRaises(InvalidPipeline, keeps, value, None, None, start=0, limit=0)
-            self.assertRaises(InvalidPipeline, keeps, one, value, SMALL)
+            if not isinstance(value, Monitor):
+                self.assertRaises(InvalidPipeline, keeps, one, value, SMALL)
             self.assertRaises(InvalidLayout, keeps, one, far, value, start=0, limit=0)
             if value is not None:
                 self.assertRaises(InvalidState, keeps, one, monitor, SMALL, start=value)

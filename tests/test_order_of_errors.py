@@ -17,7 +17,6 @@ from pushalike.run.readings import difference, read
 from pushalike.run.states import begin, due_in, event, is_state, moment, waited
 from pushalike.text.papers import read_paper, write_paper
 from pushalike.text.shell import Shell
-from pushalike.tree.pipelines import Pipeline
 from pushalike.tree.texts import read_pipeline, read_tree, write_pipeline, write_tree
 from pushalike.use.chains import Chain, trim
 from pushalike.use.parts import closed_paths, exchange, hand_over, lifted, needless, replace_part

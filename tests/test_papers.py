@@ -7,7 +7,8 @@ from pushalike.base.tapes import Tape
 from pushalike.errors import InvalidLayout, InvalidNumber, InvalidOperation, InvalidPaper, InvalidPipeline, InvalidState, InvalidTape, TooMany
 from pushalike.joint.monitors import Monitor, Watch
 from pushalike.joint.papers import are_alike, find_paper, hastened, is_paper, turned
-from pushalike.joint.stands import Pair
+from pushalike.joint.stands import Pair, plans_of
+from pushalike.joint.turns import turned_stand
 from pushalike.run.readings import difference
 from pushalike.run.states import begin
 from pushalike.tree.pipelines import Pipeline
@@ -382,8 +383,6 @@ class Turned(Checks):
 
 def turned_stand_of(pair, stand):
     """The stand turned round, as the joint stand of the other pair with the same pairs of states."""
-    from pushalike.joint.stands import plans_of
-    from pushalike.joint.turns import turned_stand
     return turned_stand(plans_of(pair), stand)
 
 

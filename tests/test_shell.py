@@ -8,7 +8,7 @@ from pushalike.joint.stands import Pair
 from pushalike.run.live import Live
 from pushalike.run.states import begin
 from pushalike.text.shell import SHELL_LIMIT, Shell
-from pushalike.tree.texts import read_pipeline, write_pipeline
+from pushalike.tree.texts import write_pipeline
 from tests.chance import Chance
 from tests.samples import MOST, WORDS, junk
 
